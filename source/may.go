@@ -3,6 +3,7 @@ package source
 import (
 	"plantwright/api"
 	"plantwright/cell"
+	"plantwright/tokens"
 )
 
 func mayUnit(u api.Unit) bool {
@@ -41,16 +42,16 @@ func isNumber(n int) bool {
 
 // isName: is this a name that a text can have, or a hidden one?
 func isName(s string) bool {
-	return isWord(s) && !isReserved(s) || isHidden(s)
+	return isWord(s) && !tokens.IsReserved(s) || isHidden(s)
 }
 
 func isWord(s string) bool {
-	if s == "" || len(s) > api.MaxName || isDigit(s[0]) {
+	if s == "" || len(s) > api.MaxName || tokens.IsDigit(s[0]) {
 		return false
 	}
 	for i := range len(s) {
 		great := s[i] >= 'A' && s[i] <= 'Z'
-		if great || !isLetter(s[i]) && !isDigit(s[i]) {
+		if great || !tokens.IsLetter(s[i]) && !tokens.IsDigit(s[i]) {
 			return false
 		}
 	}
@@ -62,7 +63,7 @@ func isHidden(s string) bool {
 		return false
 	}
 	for i := 1; i < len(s); i++ {
-		if !isDigit(s[i]) {
+		if !tokens.IsDigit(s[i]) {
 			return false
 		}
 	}

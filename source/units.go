@@ -1,72 +1,75 @@
 package source
 
-import "plantwright/api"
+import (
+	"plantwright/api"
+	"plantwright/tokens"
+)
 
-func (r *reader) text() []api.Unit {
+func (r reader) text() []api.Unit {
 	var units []api.Unit
-	for len(units) == 0 || !r.isClass(ending) {
+	for len(units) == 0 || !r.IsClass(tokens.Ending) {
 		units = append(units, r.unit())
-		r.whole++
+		r.Whole++
 	}
 	return units
 }
 
-func (r *reader) unit() api.Unit {
-	first := r.need("program", "function", "function_block")
-	if r.whole == api.MaxUnits {
-		r.giveUp(api.ErrSize, first.at)
+func (r reader) unit() api.Unit {
+	first := r.Need("program", "function", "function_block")
+	if r.Whole == api.MaxUnits {
+		r.GiveUp(api.ErrSize, first.At)
 	}
-	u := api.Unit{Kind: unitOf(first.text), Name: r.name(), At: first.at}
+	u := api.Unit{Kind: unitOf(first.Text), Name: r.NeedName(), At: first.At}
 	if u.Kind == api.Function {
-		r.need(":")
+		r.Need(":")
 		u.Result = r.kind()
 	}
 	u.Vars = r.heads()
 	u.Body = r.list(inUnit)
-	r.need("end_" + first.text)
+	r.Need("end_" + first.Text)
 	return u
 }
 
-func (r *reader) kind() api.Kind {
-	return kindOf(r.need("bool", "int", "dint", "word", "time").text)
+func (r reader) kind() api.Kind {
+	return kindOf(r.Need("bool", "int", "dint", "word", "time").Text)
 }
 
-func (r *reader) heads() []api.Var {
+func (r reader) heads() []api.Var {
 	var vars []api.Var
-	for r.is("var", "var_input", "var_output", "var_external") {
+	for r.Is("var", "var_input", "var_output", "var_external") {
 		role := r.role()
-		for r.isClass(name) {
+		for r.IsClass(tokens.Name) {
 			vars = r.declared(vars, role)
 		}
-		r.need("end_var")
+		r.Need("end_var")
 	}
 	return vars
 }
 
-func (r *reader) role() api.Role {
-	role := roleOf(r.take().text)
-	if role == api.Own && r.took("retain") {
+func (r reader) role() api.Role {
+	role := roleOf(r.Take().Text)
+	if role == api.Own && r.Took("retain") {
 		return api.Keep
 	}
 	return role
 }
 
 // declared: the variables, and behind them those of a declaration.
-func (r *reader) declared(vars []api.Var, role api.Role) []api.Var {
+func (r reader) declared(vars []api.Var, role api.Role) []api.Var {
 	before := len(vars)
-	for more := true; more; more = r.took(",") {
-		t := r.needClass(name)
+	for more := true; more; more = r.Took(",") {
+		t := r.NeedClass(tokens.Name)
 		if len(vars) == api.MaxVars {
-			r.giveUp(api.ErrSize, t.at)
+			r.GiveUp(api.ErrSize, t.At)
 		}
-		vars = append(vars, api.Var{Name: t.text, Role: role, At: t.at})
+		vars = append(vars, api.Var{Name: t.Text, Role: role, At: t.At})
 	}
-	r.need(":")
+	r.Need(":")
 	like := r.typed()
-	if r.took(":=") {
+	if r.Took(":=") {
 		like.Init = r.literal()
 	}
-	r.need(";")
+	r.Need(";")
 	for i := before; i < len(vars); i++ {
 		vars[i].Kind, vars[i].Of, vars[i].Low, vars[i].Len, vars[i].Init = like.Kind, like.Of, like.Low, like.Len, like.Init
 	}
@@ -74,20 +77,20 @@ func (r *reader) declared(vars []api.Var, role api.Role) []api.Var {
 }
 
 // typed: a variable without a name, of the type that stands here.
-func (r *reader) typed() api.Var {
-	if r.isClass(name) {
-		return api.Var{Of: r.name()}
+func (r reader) typed() api.Var {
+	if r.IsClass(tokens.Name) {
+		return api.Var{Of: r.NeedName()}
 	}
-	if !r.is("array") {
+	if !r.Is("array") {
 		return api.Var{Kind: r.kind()}
 	}
-	r.take()
-	r.need("[")
+	r.Take()
+	r.Need("[")
 	low := r.constant()
-	r.need("..")
+	r.Need("..")
 	high := r.constantOf(func(n int) bool { return lengthFits(n - low + 1) })
-	r.need("]")
-	r.need("of")
+	r.Need("]")
+	r.Need("of")
 	return api.Var{Kind: r.kind(), Low: low, Len: high - low + 1}
 }
 

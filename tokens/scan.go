@@ -1,4 +1,4 @@
-package source
+package tokens
 
 import (
 	"strconv"
@@ -8,39 +8,40 @@ import (
 	"plantwright/cell"
 )
 
-// class is what a token is.
-type class int
+// Class is what a token is.
+type Class int
 
+// The classes.
 const (
-	broken class = iota // it has a fault of its own
-	ending              // the end of the text
-	name
-	mark // a reserved word or a sign
-	number
-	span // a time
+	Broken Class = iota // it has a fault of its own
+	Ending              // the end of the text
+	Name
+	Mark // a reserved word or a sign
+	Number
+	Span // a time
 )
 
-// token: text is that of a name or mark, n the value of a number or span; it stands from at up to end.
-type token struct {
-	class class
-	text  string
-	n     int
-	at    int
-	end   int
-	fault api.Errno
+// Token: Text is that of a name or mark, N the value of a number or span; it stands from At up to End.
+type Token struct {
+	Class Class
+	Text  string
+	N     int
+	At    int
+	End   int
+	Fault api.Errno
 }
 
 // scan finds the token at a place, or behind what stands between tokens there. It only keeps the fault of a token: one that stands ahead may be wrong as well, and is told first.
-func scan(s string, at int) token {
+func scan(s string, at int) Token {
 	at, open := skip(s, at)
 	switch {
 	case open:
-		return token{at: at, fault: api.ErrText}
+		return Token{At: at, Fault: api.ErrText}
 	case at == len(s):
-		return token{class: ending, at: at, end: at}
-	case isDigit(s[at]):
+		return Token{Class: Ending, At: at, End: at}
+	case IsDigit(s[at]):
 		return scanNumber(s, at)
-	case isLetter(s[at]):
+	case IsLetter(s[at]):
 		return scanWord(s, at)
 	}
 	return scanSign(s, at)
@@ -76,54 +77,55 @@ func isBlank(c byte) bool {
 	return c == ' ' || c == '\t' || c == '\n' || c == '\r'
 }
 
-func isDigit(c byte) bool {
+// IsDigit: is this byte one of the ten digits?
+func IsDigit(c byte) bool {
 	return c >= '0' && c <= '9'
 }
 
-// isLetter counts the line below as a letter: it stands wherever one may.
-func isLetter(c byte) bool {
+// IsLetter: is this byte a letter? It counts the line below as a letter: it stands wherever one may.
+func IsLetter(c byte) bool {
 	return c >= 'a' && c <= 'z' || c >= 'A' && c <= 'Z' || c == '_'
 }
 
 // run finds the end of the letters and digits at a place.
 func run(s string, at int, hash bool) int {
-	for at < len(s) && (isLetter(s[at]) || isDigit(s[at]) || hash && s[at] == '#') {
+	for at < len(s) && (IsLetter(s[at]) || IsDigit(s[at]) || hash && s[at] == '#') {
 		at++
 	}
 	return at
 }
 
-func scanWord(s string, at int) token {
+func scanWord(s string, at int) Token {
 	end := run(s, at, false)
 	// The text of a tree shares no memory with the text that was handed in.
 	text := strings.Clone(strings.ToLower(s[at:end]))
-	t := token{class: name, text: text, at: at, end: end}
+	t := Token{Class: Name, Text: text, At: at, End: end}
 	switch {
 	case (text == "t" || text == "time") && strings.HasPrefix(s[end:], "#"):
 		return scanSpan(s, at)
 	case len(text) > api.MaxName:
-		t.class, t.fault = broken, api.ErrLong
-	case isReserved(text):
-		t.class = mark
+		t.Class, t.Fault = Broken, api.ErrLong
+	case IsReserved(text):
+		t.Class = Mark
 	}
 	return t
 }
 
-func scanSpan(s string, at int) token {
+func scanSpan(s string, at int) Token {
 	end := run(s, at, true)
 	n, fault := cell.Read(api.Time, s[at:end])
-	return valued(token{class: span, n: n, at: at, end: end, fault: fault})
+	return valued(Token{Class: Span, N: n, At: at, End: end, Fault: fault})
 }
 
-func scanNumber(s string, at int) token {
+func scanNumber(s string, at int) Token {
 	end := run(s, at, true)
 	n, fault := readNumber(s[at:end])
-	return valued(token{class: number, n: n, at: at, end: end, fault: fault})
+	return valued(Token{Class: Number, N: n, At: at, End: end, Fault: fault})
 }
 
-func valued(t token) token {
-	if t.fault != api.OK {
-		t.class = broken
+func valued(t Token) Token {
+	if t.Fault != api.OK {
+		t.Class = Broken
 	}
 	return t
 }
@@ -145,11 +147,11 @@ func readNumber(s string) (int, api.Errno) {
 	return int(n), api.OK
 }
 
-func scanSign(s string, at int) token {
+func scanSign(s string, at int) Token {
 	for _, sign := range signs {
 		if strings.HasPrefix(s[at:], sign) {
-			return token{class: mark, text: sign, at: at, end: at + len(sign)}
+			return Token{Class: Mark, Text: sign, At: at, End: at + len(sign)}
 		}
 	}
-	return token{at: at, fault: api.ErrText}
+	return Token{At: at, Fault: api.ErrText}
 }
