@@ -57,7 +57,7 @@ func (d *drawer) plain(name string, at int) {
 	input := d.NeedClass(tokens.Name)
 	args := []api.Arg{{Name: input.Text, E: powered(at), At: input.At}}
 	for d.Need(",", ")").Text == "," {
-		args = append(args, d.NeedArg(len(args), d.expression))
+		args = append(args, d.NeedArg(len(args), d.Expression))
 	}
 	d.put(api.Stmt{Verb: api.Invoke, At: at, Name: name, Args: args})
 }

@@ -22,7 +22,7 @@ type drawer struct {
 func (d *drawer) unit() api.Unit {
 	first := d.Need("ladder")
 	name := d.NeedName()
-	d.vars = d.heads()
+	d.vars = d.Heads()
 	d.shown = len(d.vars)
 	for d.Is("rung") {
 		d.rung(d.Take().At)

@@ -2,35 +2,12 @@ package ladder
 
 import (
 	"plantwright/api"
-	"plantwright/source"
-	"plantwright/tokens"
+	"plantwright/drawings"
 )
 
 // reader reads what a ladder's text is made of.
 type reader struct {
-	*tokens.Reader
-}
-
-// heads: the variables of the heads that stand here.
-func (r reader) heads() []api.Var {
-	vars, end, fault := source.Heads(r.Text, r.Now.At)
-	r.goOn(end, fault)
-	return vars
-}
-
-// expression: the expression that stands here, and has to.
-func (r reader) expression() api.Expr {
-	e, end, fault := source.Expression(r.Text, r.Now.At)
-	r.goOn(end, fault)
-	return e
-}
-
-// goOn goes behind what was read elsewhere, if nothing is wrong with it.
-func (r reader) goOn(end int, fault api.Fault) {
-	if fault.Code != api.OK {
-		r.GiveUp(fault.Code, fault.At)
-	}
-	r.GoTo(end)
+	drawings.Reader
 }
 
 // sign: the one of these signs that stands here, if one does.

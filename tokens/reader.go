@@ -1,4 +1,4 @@
-// Package tokens: what the texts of units and of ladders have in common: their tokens, and a reader that goes through them.
+// Package tokens: what the texts of units, of ladders and of diagrams have in common: their tokens, and a reader that goes through them.
 package tokens
 
 import (
